@@ -1,12 +1,17 @@
 """Rules: how numbers tell them, and what becomes of headers by them."""
 
 MOST_RULES = 8
+MOST_PATTERNS = 8
 PORTS = 6
 
 # The sort of an outcome; that of a sent header is SENT plus the port.
 HOLE = 0
 DROPPED = 1
 SENT = 2
+
+
+def matches_pattern(header, told, ones):
+    return header & told == ones
 
 
 class Rule:
@@ -18,7 +23,12 @@ class Rule:
         self.action = numbers[2:]
 
     def matches(self, header):
-        return header & self.told == self.ones
+        return matches_pattern(header, self.told, self.ones)
+
+    def highest_unlike(self, header):
+        """The highest bit that its pattern tells and that's otherwise in a header that doesn't match it."""
+        unlike = (header & self.told) ^ self.ones
+        return unlike.bit_length() - 1
 
     def outcome(self, header):
         """What becomes of a header for which it counts: the sort, then, if it's sent, the header as which."""
@@ -52,6 +62,18 @@ def pattern_stands(numbers, start, width):
     told = numbers[start]
     ones = numbers[start + 1]
     return within_bits(told, width) and told & ones == ones
+
+
+def read_patterns(numbers, width):
+    """The patterns that are told whole by numbers, or None if they aren't."""
+    if not numbers or not 0 <= numbers[0] <= MOST_PATTERNS or len(numbers) != 1 + 2 * numbers[0]:
+        return None
+    patterns = []
+    for start in range(1, len(numbers), 2):
+        if not pattern_stands(numbers, start, width):
+            return None
+        patterns.append((numbers[start], numbers[start + 1]))
+    return patterns
 
 
 def rule_size(numbers, start, width):
@@ -106,6 +128,16 @@ def counting_rule(rules, header):
         if rule.matches(header):
             return number
     return None
+
+
+def counting_rules(rules, width):
+    """The number of the rule that counts for each header (or None), by the header."""
+    return [counting_rule(rules, header) for header in range(1 << width)]
+
+
+def own_headers(rules, number, width):
+    """For each header whether this rule counts for it, by the header."""
+    return [counting == number for counting in counting_rules(rules, width)]
 
 
 def outcome_at(rules, header):

@@ -5,9 +5,11 @@ A table's number is known to be right by then. What's answered is a list; a refu
 """
 
 from ruletablesdesk.headersets import set_as_numbers
+from ruletablesdesk.reshaping import behind_step, can_change_places, idle_rules, rules_apart
+from ruletablesdesk.reshaping import smaller_step, spare_rules
 from ruletablesdesk.rules import DROPPED, HOLE, MOST_RULES, SENT
-from ruletablesdesk.rules import counting_rule, has_rule, is_port, outcomes_at
-from ruletablesdesk.rules import read_rule, read_rules, rules_as_numbers, within_bits
+from ruletablesdesk.rules import counting_rule, counting_rules, has_rule, is_port, matches_pattern, outcomes_at
+from ruletablesdesk.rules import own_headers, read_patterns, read_rule, read_rules, rules_as_numbers, within_bits
 
 
 class Desk:
@@ -16,6 +18,10 @@ class Desk:
     def __init__(self):
         self.width = 4
         self.tables = [[], []]
+
+
+def behind_count(found):
+    return [len(found)] + found
 
 
 def wide(desk, numbers, row):
@@ -79,7 +85,7 @@ def own(desk, numbers, row):
     number = numbers[1]
     if not has_rule(rules, number):
         return [-3]
-    return set_as_numbers([counting_rule(rules, header) == number for header in range(1 << desk.width)])
+    return set_as_numbers(own_headers(rules, number, desk.width))
 
 
 def hole(desk, numbers, row):
@@ -106,13 +112,88 @@ def out(desk, numbers, row):
     return set_as_numbers(flags)
 
 
+def from_which(desk, numbers, row):
+    port = numbers[1]
+    if not is_port(port):
+        return [-3]
+    patterns = read_patterns(row, desk.width)
+    if patterns is None:
+        return [-1]
+    flags = []
+    for outcome in outcomes_at(desk.tables[numbers[0]], desk.width):
+        by_port = outcome[0] == SENT + port
+        flags.append(by_port and any([matches_pattern(outcome[1], told, ones) for told, ones in patterns]))
+    return set_as_numbers(flags)
+
+
+def idle(desk, numbers, row):
+    return behind_count(idle_rules(desk.tables[numbers[0]], desk.width))
+
+
+def spare(desk, numbers, row):
+    return behind_count(spare_rules(desk.tables[numbers[0]], desk.width))
+
+
+def turn(desk, numbers, row):
+    rules = desk.tables[numbers[0]]
+    number = numbers[1]
+    if not has_rule(rules, number) or not has_rule(rules, number + 1):
+        return [-3]
+    return [int(can_change_places(rules, number, desk.width))]
+
+
+def small(desk, numbers, row):
+    rules = desk.tables[numbers[0]]
+    steps = 0
+    told = []
+    step = smaller_step(rules, desk.width)
+    while step:
+        rules = behind_step(rules, step)
+        steps += 1
+        told.extend(step)
+        step = smaller_step(rules, desk.width)
+    desk.tables[numbers[0]] = rules
+    return [steps] + told
+
+
+def apart(desk, numbers, row):
+    return rules_as_numbers(rules_apart(desk.tables[numbers[0]], desk.width))
+
+
+def why(desk, numbers, row):
+    header = numbers[1]
+    if not within_bits(header, desk.width):
+        return [-3]
+    bits = []
+    for rule in desk.tables[numbers[0]]:
+        if rule.matches(header):
+            break
+        bits.append(rule.highest_unlike(header))
+    return behind_count(bits)
+
+
+def counts(desk, numbers, row):
+    rules = desk.tables[numbers[0]]
+    counting = counting_rules(rules, desk.width)
+    sizes = [counting.count(number) for number in range(len(rules))]
+    return behind_count(sizes) + [counting.count(None)]
+
+
+def outcome_pairs(desk):
+    """The outcomes of each header at table 0 and at table 1, by the header."""
+    return list(zip(outcomes_at(desk.tables[0], desk.width), outcomes_at(desk.tables[1], desk.width)))
+
+
+def other(desk, numbers, row):
+    flags = [first != second for first, second in outcome_pairs(desk)]
+    return [flags.count(True)] + set_as_numbers(flags)
+
+
 def classes(desk, numbers, row):
-    first = outcomes_at(desk.tables[0], desk.width)
-    second = outcomes_at(desk.tables[1], desk.width)
     members = {}
-    for header in range(1 << desk.width):
-        if first[header] != second[header]:
-            members.setdefault((first[header][0], second[header][0]), []).append(header)
+    for header, pair in enumerate(outcome_pairs(desk)):
+        if pair[0] != pair[1]:
+            members.setdefault((pair[0][0], pair[1][0]), []).append(header)
     told = [len(members)]
     for sorts in sorted(members):
         headers = members[sorts]
@@ -121,10 +202,13 @@ def classes(desk, numbers, row):
 
 
 # By the number of a call: its function, and how many whole numbers it has.
-CALLS = {0: wide, 1: table, 2: put, 3: take, 4: shown, 5: does, 6: own, 7: hole, 8: to, 9: out, 19: classes}
-NUMBERS = {0: 1, 1: 1, 2: 2, 3: 2, 4: 1, 5: 2, 6: 2, 7: 1, 8: 2, 9: 2, 19: 0}
-WITH_ROW = (1, 2)
-WITHOUT_TABLE = (0, 19)
+CALLS = {0: wide, 1: table, 2: put, 3: take, 4: shown, 5: does, 6: own, 7: hole, 8: to, 9: out,
+         10: from_which, 11: idle, 12: spare, 13: turn, 14: small, 15: apart, 16: why, 17: counts,
+         18: other, 19: classes}
+NUMBERS = {0: 1, 1: 1, 2: 2, 3: 2, 4: 1, 5: 2, 6: 2, 7: 1, 8: 2, 9: 2,
+           10: 2, 11: 1, 12: 1, 13: 2, 14: 1, 15: 1, 16: 2, 17: 1, 18: 0, 19: 0}
+WITH_ROW = (1, 2, 10)
+WITHOUT_TABLE = (0, 18, 19)
 
 
 def answer_to(desk, call, numbers, row):

@@ -6,7 +6,8 @@ The second telling keeps to sets of headers and to the document's words, and sha
 from ruletablesdesk.tables import answers
 
 NUMBER_OF = {"wide": 0, "table": 1, "put": 2, "take": 3, "shown": 4, "does": 5, "own": 6,
-             "hole": 7, "to": 8, "out": 9, "classes": 19}
+             "hole": 7, "to": 8, "out": 9, "from": 10, "idle": 11, "spare": 12, "turn": 13, "small": 14,
+             "apart": 15, "why": 16, "counts": 17, "other": 18, "classes": 19}
 HUGE = 10 ** 18
 
 # The document's example, W being 4: the rules of table 0 and of table 1.
@@ -84,6 +85,17 @@ def some_rules(source, width):
     return rules
 
 
+def alike_rules(source, width):
+    """As many rules as fit or fewer, of which many have one action and patterns that tell the same bits."""
+    tolds = [source.randrange(2 ** width), 2 ** width - 1, source.randrange(2 ** width)]
+    actions = [[0], [1, 0, 0, 4], [1, 1, 1, 4]][:source.randrange(1, 4)]
+    rules = []
+    for _ in range(source.randrange(9)):
+        told = source.choice(tolds)
+        rules.append([told, source.randrange(2 ** width) & told] + source.choice(actions))
+    return rules
+
+
 def told_patterns(headers, w):
     if not headers:
         return []
@@ -131,3 +143,9 @@ def does(rules, header, w):
                 return [1, number]
             return [2, number, rule[5], rewritten(header, rule[3], rule[4], w)]
     return [0]
+
+
+def outcomes(rules, w):
+    """The outcome of each header: [0], [1], or [2, port, header]."""
+    told = [does(rules, header, w) for header in range(2 ** w)]
+    return [answer[:1] + answer[2:] for answer in told]
